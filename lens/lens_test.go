@@ -10,6 +10,7 @@ import (
 	"marquetry/api"
 	"marquetry/bitin"
 	"marquetry/bitout"
+	"marquetry/internal/bittext"
 	"marquetry/lens"
 )
 
@@ -17,58 +18,9 @@ import (
 var wrong = []int{math.MinInt, math.MinInt + 1, math.MinInt32, -1 << 32, -4096, -2, -1, 0,
 	4097, 4098, 8192, 1 << 16, 1 << 31, 1 << 32, 1<<32 + 1, math.MaxInt - 1, math.MaxInt}
 
-// A number as bits, the lowest first.
-func num(v, n int) string {
-	var b strings.Builder
-	for i := range n {
-		b.WriteByte(byte('0' + v>>i&1))
-	}
-	return b.String()
-}
-
 // Bits as they stand, blanks between them aside.
 func bare(parts ...string) string {
 	return strings.ReplaceAll(strings.Join(parts, ""), " ", "")
-}
-
-func bytesOf(bits string) []byte {
-	b := make([]byte, (len(bits)+7)/8)
-	for i, c := range bits {
-		if c == '1' {
-			b[i/8] |= 1 << (i % 8)
-		}
-	}
-	return b
-}
-
-func bitsOf(w *bitout.Writer) string {
-	var all strings.Builder
-	for _, b := range w.Bytes() {
-		all.WriteString(num(int(b), 8))
-	}
-	return all.String()[:w.Len()]
-}
-
-// A reader of just these bits: with up to 7 ahead of them, that are read already.
-func reader(bits string) *bitin.Reader {
-	skip := -len(bits) & 7
-	r := bitin.New(bytesOf(strings.Repeat("1", skip) + bits))
-	r.Bits(skip)
-	return r
-}
-
-func overReader() *bitin.Reader {
-	r := bitin.New([]byte{0x55})
-	r.Bits(9)
-	return r
-}
-
-func writer(bits string) *bitout.Writer {
-	w := bitout.New()
-	for _, c := range bits {
-		w.Bits(uint32(c-'0'), 1)
-	}
-	return w
 }
 
 // Pseudo-random numbers by a fixed rule.
@@ -122,29 +74,6 @@ func complete(list []int) bool {
 	return sum == 1<<15 || count == 1
 }
 
-// The code of each symbol that has one, as a text, its highest bit first.
-func codesOf(list []int) map[int]string {
-	var order []int
-	for s, l := range list {
-		if l != 0 {
-			order = append(order, s)
-		}
-	}
-	slices.SortStableFunc(order, func(a, b int) int { return list[a] - list[b] })
-	if len(order) == 1 {
-		return map[int]string{order[0]: ""}
-	}
-	codes := map[int]string{}
-	next, length := 0, 0
-	for _, s := range order {
-		next <<= list[s] - length
-		length = list[s]
-		codes[s] = fmt.Sprintf("%0*b", length, next)
-		next++
-	}
-	return codes
-}
-
 // What Read is held against: the chapter's words, bit by bit; it panics with the error.
 type model struct {
 	bits string
@@ -170,8 +99,8 @@ func (m *model) must(ok bool) {
 	}
 }
 
-func (m *model) symbol(codes map[int]string) int {
-	for have := ""; ; have += num(m.num(1), 1) {
+func (m *model) symbol(codes []string) int {
+	for have := ""; ; have += bittext.Number(m.num(1), 1) {
 		for s, c := range codes {
 			if c == have {
 				return s
@@ -203,7 +132,7 @@ func (m *model) normal(n int) {
 		short[symbol] = m.num(3)
 	}
 	m.must(complete(short))
-	codes := codesOf(short)
+	codes := bittext.Codes(short)
 	steps := math.MaxInt
 	if m.num(1) == 1 {
 		k := m.num(3)
@@ -248,7 +177,7 @@ func modelRead(bits string, n int) (list []int, e api.Errno, left int) {
 
 func expectRead(t *testing.T, bits string, n int, want []int, left int) {
 	t.Helper()
-	r := reader(bits)
+	r := bittext.Reader(bits)
 	got, e := lens.Read(r, n)
 	if e != api.OK || !slices.Equal(got, want) {
 		t.Errorf("Read(%s, %d) = %v, %d; want %v", bits, n, got, e, want)
@@ -259,7 +188,7 @@ func expectRead(t *testing.T, bits string, n int, want []int, left int) {
 
 func expectError(t *testing.T, bits string, n int, want api.Errno) {
 	t.Helper()
-	r := reader(bits)
+	r := bittext.Reader(bits)
 	if got, e := lens.Read(r, n); e != want || len(got) != 0 {
 		t.Errorf("Read(%s, %d) = %v, %d; want %d", bits, n, got, e, want)
 	}
@@ -303,9 +232,9 @@ func expectModel(t *testing.T, bits string, n int) api.Errno {
 
 // The head of the normal form with these lengths of the code of lengths, count of them told.
 func head(count int, short map[int]int) string {
-	bits := "0" + num(count-4, 4)
+	bits := "0" + bittext.Number(count-4, 4)
 	for _, symbol := range []int{17, 18, 0, 1, 2, 3, 4, 5, 16, 6, 7, 8, 9, 10, 11, 12, 13, 14, 15}[:count] {
-		bits += num(short[symbol], 3)
+		bits += bittext.Number(short[symbol], 3)
 	}
 	return bits
 }
@@ -321,7 +250,7 @@ func tight(short map[int]int) string {
 
 // Steps are counted: k, and how many.
 func counted(k, steps int) string {
-	return "1" + num(k, 3) + num(steps-2, 2+2*k)
+	return "1" + bittext.Number(k, 3) + bittext.Number(steps-2, 2+2*k)
 }
 
 func TestTheChaptersExample(t *testing.T) {
@@ -342,7 +271,7 @@ func TestOneSymbolIsRead(t *testing.T) {
 	for symbol := range 256 {
 		for _, n := range []int{symbol + 1, symbol + 2, 280, 2328, 4096} {
 			if n > symbol {
-				expectRead(t, "101"+num(symbol, 8), n, alone(symbol, 1, n), 0)
+				expectRead(t, "101"+bittext.Number(symbol, 8), n, alone(symbol, 1, n), 0)
 			}
 		}
 	}
@@ -363,11 +292,11 @@ func TestTwoSymbolsAreRead(t *testing.T) {
 func TestSimpleSymbolNotBelowN(t *testing.T) {
 	expectForm(t, bare("1 0 0 1"), 1)
 	for symbol := 1; symbol < 256; symbol++ {
-		expectForm(t, "101"+num(symbol, 8), symbol)
-		expectForm(t, "101"+num(symbol, 8), 1)
-		expectForm(t, "111"+num(0, 8)+num(symbol, 8), symbol)
-		expectForm(t, "111"+num(symbol, 8)+num(0, 8), symbol)
-		expectForm(t, "1100"+num(symbol, 8), symbol)
+		expectForm(t, "101"+bittext.Number(symbol, 8), symbol)
+		expectForm(t, "101"+bittext.Number(symbol, 8), 1)
+		expectForm(t, "111"+bittext.Number(0, 8)+bittext.Number(symbol, 8), symbol)
+		expectForm(t, "111"+bittext.Number(symbol, 8)+bittext.Number(0, 8), symbol)
+		expectForm(t, "1100"+bittext.Number(symbol, 8), symbol)
 	}
 	expectForm(t, bare("1 1 0 1 00000000"), 1)
 	expectForm(t, bare("1 1 0 1 01000000"), 1)
@@ -382,7 +311,7 @@ func TestSimpleSymbolTwice(t *testing.T) {
 	}
 	expectForm(t, bare("1 1 0 0 00000000"), 1)
 	for symbol := range 256 {
-		expectForm(t, "111"+num(symbol, 8)+num(symbol, 8), 256)
+		expectForm(t, "111"+bittext.Number(symbol, 8)+bittext.Number(symbol, 8), 256)
 	}
 }
 
@@ -598,19 +527,19 @@ func TestRepeatedBeyondN(t *testing.T) {
 	// 1, 16, 17, 18: 00, 01, 10, 11.
 	bits := tight(map[int]int{1: 2, 16: 2, 17: 2, 18: 2}) + "0"
 	for more := range 4 {
-		expectForm(t, bits+"00"+"01"+num(more, 2), 1+3+more-1)
-		expectForm(t, bits+"00"+"01"+num(more, 2), 2)
+		expectForm(t, bits+"00"+"01"+bittext.Number(more, 2), 1+3+more-1)
+		expectForm(t, bits+"00"+"01"+bittext.Number(more, 2), 2)
 	}
 	for more := range 8 {
-		expectWhole(t, bits+"00"+"10"+num(more, 3), 1+3+more, filled(4+more, 1))
-		expectForm(t, bits+"00"+"10"+num(more, 3), 1+3+more-1)
-		expectForm(t, bits+"00"+"10"+num(more, 3), 2)
-		expectForm(t, bits+"10"+num(more, 3), 1)
+		expectWhole(t, bits+"00"+"10"+bittext.Number(more, 3), 1+3+more, filled(4+more, 1))
+		expectForm(t, bits+"00"+"10"+bittext.Number(more, 3), 1+3+more-1)
+		expectForm(t, bits+"00"+"10"+bittext.Number(more, 3), 2)
+		expectForm(t, bits+"10"+bittext.Number(more, 3), 1)
 	}
 	for more := range 128 {
-		expectWhole(t, bits+"00"+"11"+num(more, 7), 1+11+more, filled(12+more, 1))
-		expectForm(t, bits+"00"+"11"+num(more, 7), 1+11+more-1)
-		expectForm(t, bits+"11"+num(more, 7), 1)
+		expectWhole(t, bits+"00"+"11"+bittext.Number(more, 7), 1+11+more, filled(12+more, 1))
+		expectForm(t, bits+"00"+"11"+bittext.Number(more, 7), 1+11+more-1)
+		expectForm(t, bits+"11"+bittext.Number(more, 7), 1)
 	}
 	expectForm(t, bits+"0000"+"1000"+"0", 4)
 	// Eights: 256 of them, to n and one beyond it.
@@ -656,12 +585,12 @@ func TestLengthsThatAreNotCompleteAtTheEnd(t *testing.T) {
 func TestWrongN(t *testing.T) {
 	for _, n := range wrong {
 		for _, bits := range []string{"", "1", "1000", "1111111111111111111", "0000000", tight(map[int]int{1: 1}) + "0"} {
-			r := reader(bits)
+			r := bittext.Reader(bits)
 			if got, e := lens.Read(r, n); e != api.ErrArg || len(got) != 0 || r.Left() != len(bits) || r.Over() {
 				t.Errorf("Read(%s, %d) = %v, %d; %d bits left", bits, n, got, e, r.Left())
 			}
 		}
-		for _, r := range []*bitin.Reader{nil, new(bitin.Reader), overReader()} {
+		for _, r := range []*bitin.Reader{nil, new(bitin.Reader), bittext.OverReader()} {
 			if got, e := lens.Read(r, n); e != api.ErrArg || len(got) != 0 {
 				t.Errorf("Read(%v, %d) = %v, %d", r, n, got, e)
 			}
@@ -672,7 +601,7 @@ func TestWrongN(t *testing.T) {
 // P7.1: no bits, of each n.
 func TestNoBits(t *testing.T) {
 	for _, n := range []int{1, 2, 40, 256, 280, 4095, 4096} {
-		for _, r := range []*bitin.Reader{nil, new(bitin.Reader), bitin.New(nil), overReader()} {
+		for _, r := range []*bitin.Reader{nil, new(bitin.Reader), bitin.New(nil), bittext.OverReader()} {
 			if got, e := lens.Read(r, n); e != api.ErrEnd || len(got) != 0 || !r.Over() {
 				t.Errorf("Read(%v, %d) = %v, %d", r, n, got, e)
 			}
@@ -685,7 +614,7 @@ func TestAllShortBits(t *testing.T) {
 	for size := range 16 {
 		for v := range 1 << size {
 			for _, n := range []int{1, 2, 4} {
-				expectModel(t, num(v, size), n)
+				expectModel(t, bittext.Number(v, size), n)
 			}
 		}
 	}
@@ -705,10 +634,10 @@ func TestAnyBits(t *testing.T) {
 		if d.below(3) == 0 {
 			bits += counted(0, 2+d.below(4))
 		} else {
-			bits += num(d.below(2), 1)
+			bits += bittext.Number(d.below(2), 1)
 		}
 		for range d.below(200) {
-			bits += num(d.below(2), 1)
+			bits += bittext.Number(d.below(2), 1)
 		}
 		met[expectModel(t, bits, 1+d.below(20))]++
 	}
@@ -723,11 +652,11 @@ func TestSpoiltBits(t *testing.T) {
 	d := dice(2)
 	for i := range 150 {
 		list := parted(&d, i, api.MaxLen)
-		w := writer("")
+		w := bittext.Writer("")
 		if len(list) > 4096 || !lens.Write(w, list) {
 			t.Fatalf("Write(%v)", list)
 		}
-		bits := bitsOf(w)
+		bits := bittext.Of(w)
 		for at := range bits {
 			other := []byte(bits)
 			other[at] ^= 1
@@ -746,8 +675,8 @@ func TestSpoiltBits(t *testing.T) {
 // Lists that were read share no memory, and what is read stays as it is.
 func TestAnswersAreNewMemory(t *testing.T) {
 	for _, bits := range []string{bare("1 1 0 0 10000000"), tight(map[int]int{1: 1}) + "0"} {
-		first, _ := lens.Read(reader(bits), 2)
-		second, _ := lens.Read(reader(bits), 2)
+		first, _ := lens.Read(bittext.Reader(bits), 2)
+		second, _ := lens.Read(bittext.Reader(bits), 2)
 		first = first[:cap(first)]
 		for i := range first {
 			first[i] = 9
@@ -762,12 +691,12 @@ func TestAnswersAreNewMemory(t *testing.T) {
 // What is written is read as want, by the model too, behind other bits and ahead of others, and to the last of its bits.
 func expectWritten(t *testing.T, list, want []int) {
 	t.Helper()
-	w := writer("1011001")
+	w := bittext.Writer("1011001")
 	if !lens.Write(w, list) {
 		t.Errorf("Write(%v) was refused", list)
 		return
 	}
-	all := bitsOf(w)
+	all := bittext.Of(w)
 	if !strings.HasPrefix(all, "1011001") {
 		t.Errorf("Write(%v) changed the bits ahead: %s", list, all)
 	}
@@ -782,12 +711,12 @@ func expectWritten(t *testing.T, list, want []int) {
 func expectRefused(t *testing.T, list []int) {
 	t.Helper()
 	for _, bits := range []string{"", "1", "1011001", "10110010"} {
-		w := writer(bits)
+		w := bittext.Writer(bits)
 		if lens.Write(w, list) {
 			t.Errorf("Write of %d lengths, %v.., was taken", len(list), list[:min(20, len(list))])
 		}
-		if bitsOf(w) != bits {
-			t.Errorf("Write of %d lengths was refused, but put %s", len(list), bitsOf(w))
+		if bittext.Of(w) != bits {
+			t.Errorf("Write of %d lengths was refused, but put %s", len(list), bittext.Of(w))
 		}
 	}
 }
@@ -957,14 +886,14 @@ func TestNilAndZeroWriters(t *testing.T) {
 	if !lens.Write(&zero, []int{2, 1, 2}) {
 		t.Error("a zero Writer was refused")
 	}
-	expectRead(t, bitsOf(&zero), 3, []int{2, 1, 2}, 0)
+	expectRead(t, bittext.Of(&zero), 3, []int{2, 1, 2}, 0)
 }
 
 func TestLensAreNotChanged(t *testing.T) {
 	for _, list := range [][]int{{0}, {0, 0, 0}, {7}, {0, 7, 0}, {1, 1}, {2, 1, 2}, {1, 1, 1}, {16}, alone(300, 9, 400), filled(300, 2, 1, 2)} {
 		room := append(slices.Clone(list), 7, 8, 9)
 		was := slices.Clone(room)
-		lens.Write(writer(""), room[:len(list)])
+		lens.Write(bittext.Writer(""), room[:len(list)])
 		if !slices.Equal(room, was) {
 			t.Errorf("%v became %v", was, room)
 		}
@@ -978,17 +907,17 @@ func TestOneBehindTheOther(t *testing.T) {
 	for i := range 60 {
 		lists = append(lists, parted(&d, i*3, api.MaxLen), alone(i*5, 1, 300), []int{1, 1})
 	}
-	w, again := writer(""), writer("")
+	w, again := bittext.Writer(""), bittext.Writer("")
 	for _, list := range lists {
 		if !lens.Write(w, list) || lens.Write(w, []int{1, 1, 1}) {
 			t.Fatalf("Write(%v)", list)
 		}
 		lens.Write(again, list)
 	}
-	if bitsOf(w) != bitsOf(again) {
+	if bittext.Of(w) != bittext.Of(again) {
 		t.Error("the same lists are other bits")
 	}
-	r := reader(bitsOf(w))
+	r := bittext.Reader(bittext.Of(w))
 	for _, list := range lists {
 		if got, e := lens.Read(r, len(list)); e != api.OK || !slices.Equal(got, list) {
 			t.Fatalf("Read = %v, %d; want %v", got, e, list)

@@ -11,68 +11,13 @@ import (
 	"marquetry/api"
 	"marquetry/bitin"
 	"marquetry/bitout"
+	"marquetry/internal/bittext"
 	"marquetry/tree"
 )
 
 // Numbers that are no symbol of a short list.
 var wrong = []int{math.MinInt, math.MinInt + 1, math.MinInt32, -1 << 32, -256, -3, -2, -1,
 	1 << 16, 1 << 31, 1 << 32, 1<<32 + 1, math.MaxInt - 1, math.MaxInt}
-
-// The code of each symbol as a text, its highest bit first; "-" of those that have none. As chapter 4 orders them.
-func codesOf(lens []int) []string {
-	codes := slices.Repeat([]string{"-"}, len(lens))
-	var symbols []int
-	for s, l := range lens {
-		if l != 0 {
-			symbols = append(symbols, s)
-		}
-	}
-	slices.SortStableFunc(symbols, func(a, b int) int { return lens[a] - lens[b] })
-	next, length := 0, 0
-	for _, s := range symbols {
-		next <<= lens[s] - length
-		length = lens[s]
-		codes[s] = fmt.Sprintf("%0*b", length, next)
-		next++
-	}
-	if len(symbols) == 1 {
-		codes[symbols[0]] = ""
-	}
-	return codes
-}
-
-// The bytes of bits that stand as a text, the first one first.
-func bytesOf(bits string) []byte {
-	b := make([]byte, (len(bits)+7)/8)
-	for i, c := range bits {
-		if c == '1' {
-			b[i/8] |= 1 << (i % 8)
-		}
-	}
-	return b
-}
-
-// A reader of just these bits, the first one first: with up to 7 ahead of them, that are read already.
-func reader(bits string) *bitin.Reader {
-	skip := -len(bits) & 7
-	r := bitin.New(bytesOf(strings.Repeat("1", skip) + bits))
-	r.Bits(skip)
-	return r
-}
-
-func overReader() *bitin.Reader {
-	r := bitin.New([]byte{0x55})
-	r.Bits(9)
-	return r
-}
-
-func writer(bits string) *bitout.Writer {
-	w := bitout.New()
-	for _, c := range bits {
-		w.Bits(uint32(c-'0'), 1)
-	}
-	return w
-}
 
 func planted(t *testing.T, lens ...int) *tree.Tree {
 	t.Helper()
@@ -100,7 +45,7 @@ func expectWrite(t *testing.T, x *tree.Tree, w *bitout.Writer, symbol int, ok bo
 	if got := x.Write(w, symbol); got != ok {
 		t.Errorf("Write(%d) = %v; want %v", symbol, got, ok)
 	}
-	if w.Len() != len(want) || !slices.Equal(w.Bytes(), bytesOf(want)) {
+	if w.Len() != len(want) || !slices.Equal(w.Bytes(), bittext.Bytes(want)) {
 		t.Errorf("behind Write(%d): %d bits, % x; want %s", symbol, w.Len(), w.Bytes(), want)
 	}
 }
@@ -118,18 +63,18 @@ func expectCodes(t *testing.T, lens []int, codes []string) {
 	x := planted(t, lens...)
 	for symbol, c := range codes {
 		if c == "-" {
-			expectWrite(t, x, writer("101"), symbol, false, "101")
+			expectWrite(t, x, bittext.Writer("101"), symbol, false, "101")
 			expectCost(t, x, symbol, 0, false)
 			continue
 		}
 		expectCost(t, x, symbol, len(c), true)
-		expectWrite(t, x, writer(""), symbol, true, c)
-		expectWrite(t, x, writer("01101"), symbol, true, "01101"+c)
-		expectRead(t, x, reader(c), symbol, api.OK, 0)
-		expectRead(t, x, reader(c+"0110"), symbol, api.OK, 4)
-		expectRead(t, x, reader(c+"1001"), symbol, api.OK, 4)
+		expectWrite(t, x, bittext.Writer(""), symbol, true, c)
+		expectWrite(t, x, bittext.Writer("01101"), symbol, true, "01101"+c)
+		expectRead(t, x, bittext.Reader(c), symbol, api.OK, 0)
+		expectRead(t, x, bittext.Reader(c+"0110"), symbol, api.OK, 4)
+		expectRead(t, x, bittext.Reader(c+"1001"), symbol, api.OK, 4)
 		for i := range c {
-			expectRead(t, x, reader(c[:i]), 0, api.ErrEnd, 0)
+			expectRead(t, x, bittext.Reader(c[:i]), 0, api.ErrEnd, 0)
 		}
 	}
 	for _, symbol := range append(wrong, len(lens), len(lens)+1, ^len(lens), -len(lens)) {
@@ -137,7 +82,7 @@ func expectCodes(t *testing.T, lens []int, codes []string) {
 			continue
 		}
 		expectCost(t, x, symbol, 0, false)
-		expectWrite(t, x, writer("101"), symbol, false, "101")
+		expectWrite(t, x, bittext.Writer("101"), symbol, false, "101")
 	}
 }
 
@@ -173,7 +118,7 @@ func parted(seed uint32, steps int) []int {
 
 func TestTheChaptersExample(t *testing.T) {
 	x := planted(t, 2, 1, 2)
-	r := reader("011")
+	r := bittext.Reader("011")
 	expectRead(t, x, r, 1, api.OK, 2)
 	expectRead(t, x, r, 2, api.OK, 0)
 	w := bitout.New()
@@ -199,7 +144,7 @@ func TestOrdinary(t *testing.T) {
 		{[]int{3, 1, 3, 3, 3}, "100 0 101 110 111"},
 	} {
 		expectCodes(t, x.lens, strings.Fields(x.codes))
-		if got := codesOf(x.lens); !slices.Equal(got, strings.Fields(x.codes)) {
+		if got := bittext.Codes(x.lens); !slices.Equal(got, strings.Fields(x.codes)) {
 			t.Errorf("the model has %v of %v", got, x.lens)
 		}
 	}
@@ -210,22 +155,22 @@ func TestEachLength(t *testing.T) {
 		up := stairs(last)
 		down := slices.Clone(up)
 		slices.Reverse(down)
-		expectCodes(t, up, codesOf(up))
-		expectCodes(t, down, codesOf(down))
+		expectCodes(t, up, bittext.Codes(up))
+		expectCodes(t, down, bittext.Codes(down))
 	}
 	for length := 1; length <= 8; length++ {
 		lens := repeated(length, 1<<length)
-		expectCodes(t, lens, codesOf(lens))
+		expectCodes(t, lens, bittext.Codes(lens))
 	}
 	// Longer by many bits than the shortest one; nothing has a length between.
 	lens := append(repeated(15, 1<<14), 1)
 	x := planted(t, lens...)
-	expectRead(t, x, reader("0"), 1<<14, api.OK, 0)
-	expectRead(t, x, reader("100000000000000"), 0, api.OK, 0)
-	expectRead(t, x, reader("111111111111111"), 1<<14-1, api.OK, 0)
-	expectRead(t, x, reader("111111111111110"), 1<<14-2, api.OK, 0)
-	expectWrite(t, x, writer(""), 1<<14-2, true, "111111111111110")
-	expectRead(t, x, reader("11111111111111"), 0, api.ErrEnd, 0)
+	expectRead(t, x, bittext.Reader("0"), 1<<14, api.OK, 0)
+	expectRead(t, x, bittext.Reader("100000000000000"), 0, api.OK, 0)
+	expectRead(t, x, bittext.Reader("111111111111111"), 1<<14-1, api.OK, 0)
+	expectRead(t, x, bittext.Reader("111111111111110"), 1<<14-2, api.OK, 0)
+	expectWrite(t, x, bittext.Writer(""), 1<<14-2, true, "111111111111110")
+	expectRead(t, x, bittext.Reader("11111111111111"), 0, api.ErrEnd, 0)
 }
 
 // As many symbols as there may be: each has as many bits as any other.
@@ -233,17 +178,17 @@ func TestAsManySymbolsAsThereMayBe(t *testing.T) {
 	x := planted(t, repeated(15, 1<<15)...)
 	for symbol := 0; symbol < 1<<15; symbol += 41 {
 		c := fmt.Sprintf("%015b", symbol)
-		expectWrite(t, x, writer("1"), symbol, true, "1"+c)
-		expectRead(t, x, reader(c+"1"), symbol, api.OK, 1)
+		expectWrite(t, x, bittext.Writer("1"), symbol, true, "1"+c)
+		expectRead(t, x, bittext.Reader(c+"1"), symbol, api.OK, 1)
 		expectCost(t, x, symbol, 15, true)
 	}
-	expectRead(t, x, reader("01111111111111"), 0, api.ErrEnd, 0)
+	expectRead(t, x, bittext.Reader("01111111111111"), 0, api.ErrEnd, 0)
 }
 
 func TestManyForms(t *testing.T) {
 	for seed := range uint32(120) {
 		lens := parted(seed, int(seed)*2)
-		expectCodes(t, lens, codesOf(lens))
+		expectCodes(t, lens, bittext.Codes(lens))
 	}
 }
 
@@ -259,7 +204,7 @@ func TestEachShortList(t *testing.T) {
 			}
 		}
 		if sum == 16 || count == 1 {
-			expectCodes(t, lens, codesOf(lens))
+			expectCodes(t, lens, bittext.Codes(lens))
 		} else {
 			expectRefused(t, lens, api.ErrForm)
 		}
@@ -277,7 +222,7 @@ func TestEachShortList(t *testing.T) {
 func TestOneBehindTheOther(t *testing.T) {
 	a, b := parted(7, 90), parted(8, 200)
 	trees := []*tree.Tree{planted(t, a...), planted(t, b...)}
-	codes := [][]string{codesOf(a), codesOf(b)}
+	codes := [][]string{bittext.Codes(a), bittext.Codes(b)}
 	w := bitout.New()
 	var want string
 	var symbols []int
@@ -295,10 +240,10 @@ func TestOneBehindTheOther(t *testing.T) {
 		w.Bits(uint32(i&3), 2)
 		want += codes[i%2][symbol] + string(rune('0'+i&1)) + string(rune('0'+i>>1&1))
 	}
-	if w.Len() != len(want) || !slices.Equal(w.Bytes(), bytesOf(want)) {
+	if w.Len() != len(want) || !slices.Equal(w.Bytes(), bittext.Bytes(want)) {
 		t.Fatalf("%d bits, or other ones than the codes; want %d", w.Len(), len(want))
 	}
-	r := reader(want)
+	r := bittext.Reader(want)
 	for i, symbol := range symbols {
 		if symbol < 0 {
 			continue
@@ -330,7 +275,7 @@ func TestJustOne(t *testing.T) {
 
 func TestJustOneReadsNoBits(t *testing.T) {
 	x := planted(t, append(make([]int, 4000), 9)...)
-	r := reader("1011")
+	r := bittext.Reader("1011")
 	for range 100 {
 		expectRead(t, x, r, 4000, api.OK, 4)
 	}
@@ -342,7 +287,7 @@ func TestJustOneReadsNoBits(t *testing.T) {
 	r.Bits(1)
 	expectRead(t, x, r, 0, api.ErrEnd, 0)
 	expectRead(t, x, r, 0, api.ErrEnd, 0)
-	expectRead(t, x, overReader(), 0, api.ErrEnd, 0)
+	expectRead(t, x, bittext.OverReader(), 0, api.ErrEnd, 0)
 	expectRead(t, x, nil, 0, api.ErrEnd, 0)
 }
 
@@ -350,34 +295,34 @@ func TestJustOneReadsNoBits(t *testing.T) {
 func TestBitsRunOut(t *testing.T) {
 	x, one := planted(t, 2, 1, 3, 0, 3), planted(t, 0, 9)
 	for _, bits := range []string{"", "1", "11"} {
-		r := reader(bits)
+		r := bittext.Reader(bits)
 		expectRead(t, one, r, 1, api.OK, len(bits))
 		expectRead(t, x, r, 0, api.ErrEnd, 0)
 		expectRead(t, x, r, 0, api.ErrEnd, 0)
 		expectRead(t, one, r, 0, api.ErrEnd, 0)
 	}
-	r := reader("0011011")
+	r := bittext.Reader("0011011")
 	expectRead(t, x, r, 1, api.OK, 6)
 	expectRead(t, x, r, 1, api.OK, 5)
 	expectRead(t, x, r, 2, api.OK, 2)
 	expectRead(t, x, r, 0, api.ErrEnd, 0)
-	expectRead(t, x, overReader(), 0, api.ErrEnd, 0)
+	expectRead(t, x, bittext.OverReader(), 0, api.ErrEnd, 0)
 	expectRead(t, x, new(bitin.Reader), 0, api.ErrEnd, 0)
 	expectRead(t, x, nil, 0, api.ErrEnd, 0)
 	// All codes are as long: one bit too few is as good as none.
-	expectRead(t, planted(t, repeated(4, 16)...), reader("111"), 0, api.ErrEnd, 0)
-	expectRead(t, planted(t, repeated(4, 16)...), reader(""), 0, api.ErrEnd, 0)
+	expectRead(t, planted(t, repeated(4, 16)...), bittext.Reader("111"), 0, api.ErrEnd, 0)
+	expectRead(t, planted(t, repeated(4, 16)...), bittext.Reader(""), 0, api.ErrEnd, 0)
 }
 
 func TestNilTree(t *testing.T) {
 	// A tree without codes can not be made by New; it is as nil.
 	for _, x := range []*tree.Tree{nil, new(tree.Tree)} {
-		expectRead(t, x, reader("0110"), 0, api.ErrArg, 4)
+		expectRead(t, x, bittext.Reader("0110"), 0, api.ErrArg, 4)
 		expectRead(t, x, bitin.New(nil), 0, api.ErrArg, 0)
-		expectRead(t, x, overReader(), 0, api.ErrArg, 0)
+		expectRead(t, x, bittext.OverReader(), 0, api.ErrArg, 0)
 		expectRead(t, x, nil, 0, api.ErrArg, 0)
 		for _, symbol := range append(wrong, 0, 1, 2, 15, 279) {
-			expectWrite(t, x, writer("110"), symbol, false, "110")
+			expectWrite(t, x, bittext.Writer("110"), symbol, false, "110")
 			expectWrite(t, x, nil, symbol, false, "")
 			expectCost(t, x, symbol, 0, false)
 		}
@@ -434,29 +379,29 @@ func TestLensAreNotChangedOrKept(t *testing.T) {
 	}
 	expectCost(t, x, 4, 3, true)
 	expectCost(t, x, 3, 0, false)
-	expectRead(t, x, reader("111"), 4, api.OK, 0)
-	expectWrite(t, x, writer(""), 2, true, "110")
+	expectRead(t, x, bittext.Reader("111"), 4, api.OK, 0)
+	expectWrite(t, x, bittext.Writer(""), 2, true, "110")
 }
 
 // A tree changes no more, whatever is read and written: two of one list know nothing of each other, and many may use one.
 func TestTreesStayAsTheyAre(t *testing.T) {
 	lens := parted(3, 150)
-	codes := codesOf(lens)
+	codes := bittext.Codes(lens)
 	x := planted(t, lens...)
 	var all sync.WaitGroup
 	for i := range 8 {
 		all.Go(func() {
 			for symbol, c := range codes {
-				w := writer("")
+				w := bittext.Writer("")
 				if ok := x.Write(w, symbol); ok != (c != "-") {
 					t.Errorf("%d: Write(%d) = %v", i, symbol, ok)
 				} else if !ok {
 					continue
 				}
-				if s, e := x.Read(reader(c)); s != symbol || e != api.OK {
+				if s, e := x.Read(bittext.Reader(c)); s != symbol || e != api.OK {
 					t.Errorf("%d: Read of %s = %d, %d; want %d", i, c, s, e, symbol)
 				}
-				x.Read(reader(""))
+				x.Read(bittext.Reader(""))
 			}
 		})
 	}
