@@ -54,28 +54,11 @@ func wantSizes(cache int) [5]int {
 	return sizes
 }
 
-// even answers complete lengths of n symbols, of which no two are apart by more than 1.
-func even(n int) []int {
-	list := make([]int, n)
-	length := 0
-	for 1<<length < n {
-		length++
-	}
-	shorter := 1<<length - n
-	for symbol := range list {
-		list[symbol] = length
-		if symbol < shorter {
-			list[symbol]--
-		}
-	}
-	return list
-}
-
 // evenFive answers lengths by which each symbol has a code.
 func evenFive(cache int) api.Five {
 	var f api.Five
 	for i, n := range wantSizes(cache) {
-		f[i] = even(n)
+		f[i] = bittext.Even(n)
 	}
 	return f
 }
@@ -428,7 +411,7 @@ func TestOtherNumbersOfLengths(t *testing.T) {
 				if other == n {
 					continue
 				}
-				for _, list := range [][]int{make([]int, other), even(other)} {
+				for _, list := range [][]int{make([]int, other), bittext.Even(other)} {
 					refuseNew(t, "number", with(f, i, list), cache, api.ErrArg)
 					refuseWrite(t, "number", with(f, i, list), cache)
 					for _, length := range []int{0, 1, 99} {
@@ -456,9 +439,9 @@ func TestOtherNumbersOfLengths(t *testing.T) {
 
 // wrongLens answers lengths that may not be, with the error of each.
 func wrongLens(n int) map[api.Errno][][]int {
-	above := even(n)
+	above := bittext.Even(n)
 	above[n-1] = 16
-	below := even(n)
+	below := bittext.Even(n)
 	below[0] = -1
 	many := having(n, map[int]int{0: 1, 1: 1, 2: 1})
 	few := having(n, map[int]int{0: 2, n - 1: 1})
@@ -732,7 +715,7 @@ func TestOnlyBitsOfNumbers(t *testing.T) {
 func TestEachLiteral(t *testing.T) {
 	d := dice(256)
 	for _, cache := range []int{0, 11} {
-		f := api.Five{even(wantSizes(cache)[0]), d.parted(256), even(256), d.parted(256), even(40)}
+		f := api.Five{bittext.Even(wantSizes(cache)[0]), d.parted(256), bittext.Even(256), d.parted(256), bittext.Even(40)}
 		slices.Reverse(f[2])
 		g, m := grown(t, f, cache), modelOf(f)
 		for v := range uint32(256) {

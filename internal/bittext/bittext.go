@@ -93,3 +93,20 @@ func Codes(lens []int) []string {
 	}
 	return codes
 }
+
+// Even answers complete lengths of n symbols, of which no two are apart by more than 1.
+func Even(n int) []int {
+	list := make([]int, n)
+	length := 0
+	for 1<<length < n {
+		length++
+	}
+	shorter := 1<<length - n
+	for symbol := range list {
+		list[symbol] = length
+		if symbol < shorter {
+			list[symbol]--
+		}
+	}
+	return list
+}

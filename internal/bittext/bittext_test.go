@@ -67,3 +67,11 @@ func TestCodes(t *testing.T) {
 		t.Errorf("Codes of one = %q", got)
 	}
 }
+
+func TestEven(t *testing.T) {
+	for n, want := range map[int][]int{1: {0}, 2: {1, 1}, 3: {1, 2, 2}, 4: {2, 2, 2, 2}, 5: {2, 2, 2, 3, 3}, 7: {2, 3, 3, 3, 3, 3, 3}} {
+		if got := bittext.Even(n); !slices.Equal(got, want) {
+			t.Errorf("Even(%d) = %v; want %v", n, got, want)
+		}
+	}
+}
